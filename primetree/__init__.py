@@ -1,0 +1,1 @@
+"""Primetree: the tree of the grids of a prime."""

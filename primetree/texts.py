@@ -1,0 +1,82 @@
+"""How fractions, spots and ends are written, and read again."""
+
+from primetree.errors import NoSpot, NoText
+from primetree.fractions import fraction, rest_by
+from primetree.wholes import shared
+
+FAR = "far"
+FIGURES = "0123456789"
+MOST_FIGURES = 60
+MOST_FIRST_FIGURES = 3
+FURTHEST_FIRST = 300
+
+
+def fraction_text(a):
+    top = a[0]
+    bottom = a[1]
+    if bottom == 1:
+        return f"{top}"
+    return f"{top}/{bottom}"
+
+
+def spot_text(spot):
+    first = spot[0]
+    behind = fraction_text(spot[1])
+    return f"{first}:{behind}"
+
+
+def end_text(end):
+    if end == FAR:
+        return FAR
+    return fraction_text(end)
+
+
+# Python's own int takes far more than is to be read: blanks, plus signs, underscores, figures of other scripts.
+def is_figures(text, most):
+    if text == "" or len(text) > most:
+        return False
+    if text[0] == "0" and text != "0":
+        return False
+    return all([sign in FIGURES for sign in text])
+
+
+def read_figures(text, most):
+    if not is_figures(text, most):
+        raise NoText(f"{text!r} is no whole number of at most {most} figures")
+    return int(text)
+
+
+def read_whole(text, most):
+    if not text.startswith("-"):
+        return read_figures(text, most)
+    number = read_figures(text[1:], most)
+    if number == 0:
+        raise NoText("nought is written without a sign")
+    return -number
+
+
+def read_fraction(text):
+    parts = text.partition("/")
+    top = read_whole(parts[0], MOST_FIGURES)
+    if parts[1] == "":
+        return fraction(top)
+    bottom = read_figures(parts[2], MOST_FIGURES)
+    if bottom < 2 or shared(top, bottom) != 1:
+        raise NoText(f"{text!r} is not in lowest terms, or has a bottom of 0 or 1")
+    return (top, bottom)
+
+
+def read_spot(p, text):
+    # Without a colon the part behind it is empty, which is no fraction's text.
+    parts = text.partition(":")
+    first = read_whole(parts[0], MOST_FIRST_FIGURES)
+    behind = read_fraction(parts[2])
+    if abs(first) > FURTHEST_FIRST or rest_by(p, first, behind) != behind:
+        raise NoSpot(f"{text!r} is no spot of {p}, or its first number is too far from nought")
+    return (first, behind)
+
+
+def read_end(text):
+    if text == FAR:
+        return FAR
+    return read_fraction(text)
