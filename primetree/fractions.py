@@ -1,7 +1,10 @@
 """Fractions as tuples (top, bottom) in lowest terms, bottom from 1 on, and their rests by powers of a prime."""
 
 from primetree.errors import NoFraction
-from primetree.wholes import over_by, power_of, raised, shared
+from primetree.wholes import is_whole, over_by, power_of, raised, shared
+
+NOUGHT = (0, 1)
+ONE = (1, 1)
 
 
 def fraction(top, bottom=1):
@@ -11,6 +14,14 @@ def fraction(top, bottom=1):
     if bottom < 0:
         factor = -factor
     return (top // factor, bottom // factor)
+
+
+def is_fraction(thing):
+    if not isinstance(thing, tuple) or len(thing) != 2:
+        return False
+    if not is_whole(thing[0]) or not is_whole(thing[1]):
+        return False
+    return thing[1] >= 1 and shared(thing[0], thing[1]) == 1
 
 
 def plus(a, b):
@@ -56,7 +67,7 @@ def rest_by(p, k, a):
     sunk = power_of(p, a[1])
     settled = k + sunk
     if settled <= 0:
-        return (0, 1)
+        return NOUGHT
     scale = raised(p, sunk)
     whole = a[0] * over_by(p, a[1] // scale, settled) % raised(p, settled)
     return fraction(whole, scale)

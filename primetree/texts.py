@@ -1,7 +1,8 @@
 """How fractions, spots and ends are written, and read again."""
 
 from primetree.errors import NoSpot, NoText
-from primetree.fractions import fraction, rest_by
+from primetree.fractions import fraction
+from primetree.grids import is_spot
 from primetree.wholes import shared
 
 FAR = "far"
@@ -70,10 +71,10 @@ def read_spot(p, text):
     # Without a colon the part behind it is empty, which is no fraction's text.
     parts = text.partition(":")
     first = read_whole(parts[0], MOST_FIRST_FIGURES)
-    behind = read_fraction(parts[2])
-    if abs(first) > FURTHEST_FIRST or rest_by(p, first, behind) != behind:
+    spot = (first, read_fraction(parts[2]))
+    if abs(first) > FURTHEST_FIRST or not is_spot(p, spot):
         raise NoSpot(f"{text!r} is no spot of {p}, or its first number is too far from nought")
-    return (first, behind)
+    return spot
 
 
 def read_end(text):

@@ -5,8 +5,12 @@ from primetree.errors import NoPrime
 PRIMES = (2, 3, 5, 7)
 
 
+def is_whole(thing):
+    return isinstance(thing, int) and not isinstance(thing, bool)
+
+
 def prime_of(number):
-    if not isinstance(number, int) or number not in PRIMES:
+    if not is_whole(number) or number not in PRIMES:
         raise NoPrime("the prime is to be 2, 3, 5 or 7")
     return number
 

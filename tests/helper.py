@@ -52,3 +52,60 @@ def check_refused(case, refusal, asked, *handed):
     case.assertIsInstance(told, errors.TreeError)
     takers = [other for other in REFUSALS if isinstance(told, other)]
     case.assertEqual(takers, [refusal], repr(handed))
+
+
+def numbers_of(table):
+    return tuple(number_of(a) for a in table)
+
+
+def table_from(*numbers):
+    return tuple(pair(Fraction(number)) for number in numbers)
+
+
+def product_by_numbers(one, other):
+    a, b, c, d = one
+    e, f, g, h = other
+    return (a * e + b * g, a * f + b * h, c * e + d * g, c * f + d * h)
+
+
+def turned_by_numbers(table):
+    a, b, c, d = table
+    size = a * d - b * c
+    return (d / size, -b / size, -c / size, a / size)
+
+
+def is_table(table):
+    if type(table) is not tuple or len(table) != 4 or not all(is_fraction(a) for a in table):
+        return False
+    a, b, c, d = numbers_of(table)
+    return a * d != b * c
+
+
+def is_spot_by_words(p, spot):
+    """A spot looked at without the program's own rests: from nought on, less than p ** k, the bottom a power of p."""
+    if type(spot) is not tuple or len(spot) != 2 or not is_whole(spot[0]) or not is_fraction(spot[1]):
+        return False
+    bottom = spot[1][1]
+    return bottom == p ** power_by_count(p, bottom) and 0 <= number_of(spot[1]) < Fraction(p) ** spot[0]
+
+
+def spot_by_number(p, k, number):
+    """The spot with the first number k whose fraction is alike to a number with a power of p below."""
+    return (k, pair(Fraction(number) % Fraction(p) ** k))
+
+
+def some_spots(p):
+    """Spots near the first one and far from it, of each sign of the first number, with noughts and long fractions."""
+    near = {spot_by_number(p, k, Fraction(top, p ** sunk)) for k in (-2, -1, 0, 1, 3) for top in (0, 1, p + 1, -1)
+            for sunk in (0, 1, 3)}
+    far = {spot_by_number(p, k, number) for k in (-300, -299, -40, 40, 299, 300)
+           for number in (0, Fraction(1, p ** 300), -Fraction(1, p ** 299), p ** 299, Fraction(p ** 60 + 1, p ** 31))}
+    return sorted(near) + sorted(far)
+
+
+def way_by_parting(p, one, other):
+    """How far two spots are apart, told by where the two roads up come together."""
+    turn = min(one[0], other[0])
+    if one[1] != other[1]:
+        turn = min(turn, power_of_number(p, number_of(one[1]) - number_of(other[1])))
+    return one[0] + other[0] - 2 * turn

@@ -4,6 +4,7 @@ from fractions import Fraction
 from helper import (PRIMES, SIXTY_FIGURES, WHOLES, check_refused, is_fraction, is_whole, number_of, pair,
                     power_of_number)
 from primetree.errors import NoFraction
+from primetree.fractions import is_fraction as is_told_fraction
 from primetree.fractions import (alike, fraction, less, minus, over, plus, power_in, prime_power, rest_by, times)
 
 NUMBERS = sorted({Fraction(top, bottom) for top in range(-9, 10) for bottom in (1, 2, 3, 4, 5, 6, 7, 9, 14)})
@@ -49,6 +50,17 @@ class TestFraction(unittest.TestCase):
     def test_by_name(self):
         self.assertEqual(fraction(top=2, bottom=6), (1, 3))
         self.assertEqual(fraction(top=2), (2, 1))
+
+
+class TestIsFraction(unittest.TestCase):
+    def test_every_small_pair_is_one_or_none(self):
+        for top in range(-12, 13):
+            for bottom in range(-12, 13):
+                self.assertIs(is_told_fraction((top, bottom)), is_fraction((top, bottom)), (top, bottom))
+
+    def test_other_things(self):
+        for thing in (None, 0, 1, "1/2", "12", [1, 2], (1,), (1, 2, 3), (True, 2), (1, True), (1, None), ("1", 2), ()):
+            self.assertIs(is_told_fraction(thing), False, thing)
 
 
 class TestReckoning(unittest.TestCase):

@@ -52,6 +52,10 @@ def names_bound(tree):
             yield node.id
 
 
+def called(node):
+    return getattr(node.func, "id", getattr(node.func, "attr", None))
+
+
 class TestLanguage(unittest.TestCase):
     def setUp(self):
         self.texts = read_package()
@@ -135,6 +139,28 @@ class TestLanguage(unittest.TestCase):
                     self.assertNotIn(bound, dir(builtins), name)
         for place, node in self.each_node(ast.Name):
             self.assertTrue(node.id in OWN_NAMES or node.id not in dir(builtins), (place, node.id))
+
+    def test_no_local_is_called_like_an_import_or_a_class(self):
+        for name, tree in self.trees.items():
+            taken = {alias.name for node in tree.body if isinstance(node, ast.ImportFrom) for alias in node.names}
+            taken.update(node.name for node in tree.body if isinstance(node, ast.ClassDef))
+            for node in ast.walk(tree):
+                if isinstance(node, ast.FunctionDef):
+                    self.assertFalse(taken & set(names_bound(node)), (name, node.name))
+
+    def test_walked_at_once(self):
+        walks = ("zip", "enumerate", "reversed", "range", "items", "keys", "values")
+        walkers = ("list", "tuple", "dict", "sorted", "sum", "any", "all", "enumerate", "zip", "min", "max", "join")
+        for name, tree in self.trees.items():
+            walked = set()
+            for node in ast.walk(tree):
+                if isinstance(node, (ast.For, ast.comprehension)):
+                    walked.add(node.iter)
+                if isinstance(node, ast.Call) and node.args and called(node) in walkers:
+                    walked.add(node.args[0])
+            for node in ast.walk(tree):
+                if isinstance(node, ast.Call) and called(node) in walks:
+                    self.assertIn(node, walked, f"{name}:{node.lineno}")
 
     def test_methods(self):
         own = set()
