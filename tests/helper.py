@@ -1,6 +1,7 @@
 """What the tests share: numbers to try, Python's own fractions to compare with, and how a refusal is looked at."""
 
 from fractions import Fraction
+from itertools import product as each
 
 from primetree import errors
 
@@ -109,3 +110,56 @@ def way_by_parting(p, one, other):
     if one[1] != other[1]:
         turn = min(turn, power_of_number(p, number_of(one[1]) - number_of(other[1])))
     return one[0] + other[0] - 2 * turn
+
+
+def tables_for(p):
+    """Tables with noughts in every place that lets them in, and with powers of p above and below."""
+    numbers = (Fraction(0), Fraction(1), Fraction(-1), Fraction(p), Fraction(-11, p), Fraction(p * p, 13))
+    return [table_from(*four) for four in each(numbers, repeat=4) if four[0] * four[3] != four[1] * four[2]]
+
+
+def great_tables(p):
+    return [table_from(SIXTY_FIGURES, Fraction(1, p ** 70), -SIXTY_FIGURES, Fraction(p ** 70, 11 ** 50)),
+            table_from(p ** 70, 0, 0, Fraction(1, p ** 70)), table_from(0, p ** 70, Fraction(1, p ** 70), 0),
+            table_from(1, 0, p ** 70, p ** 70), table_from(0, 1, SIXTY_FIGURES, Fraction(-1, SIXTY_FIGURES)),
+            table_from(10 ** 59 + 1, 10 ** 59, 10 ** 59, 10 ** 59 - 1)]
+
+
+def some_tables(p):
+    return tables_for(p)[::60] + great_tables(p)
+
+
+def some_numbers(p):
+    """Numbers but nought, with powers of p above and below, with none, and with other bottoms."""
+    return [Fraction(1), Fraction(-1), Fraction(p), Fraction(1, p), Fraction(-11, 13), Fraction(p ** 3, 11),
+            Fraction(-13, p ** 4), Fraction(p ** 70), Fraction(1, p ** 70), Fraction(SIXTY_FIGURES, 10 ** 59),
+            Fraction(-1, SIXTY_FIGURES)]
+
+
+def powers_in(p, numbers):
+    return [power_of_number(p, number) for number in numbers if number != 0]
+
+
+def have_one_grid(p, one, other):
+    """Whether the one table's pairs, stretched, are the other one's: each grid's pairs reckoned by the other table."""
+    turned = product_by_numbers(turned_by_numbers(numbers_of(one)), numbers_of(other))
+    a, b, c, d = turned
+    return 2 * min(powers_in(p, turned)) == power_of_number(p, a * d - b * c)
+
+
+def rest_by_words(p, k, number):
+    """The rest of a number by p ** k, reckoned with Python's own powers."""
+    sunk = power_by_count(p, number.denominator)
+    size = p ** max(k + sunk, 0)
+    return Fraction(number.numerator * pow(number.denominator // p ** sunk, -1, size) % size, p ** sunk)
+
+
+def led_by_numbers(table, end):
+    """Where a table of numbers leads an end, a number or None for far."""
+    a, b, c, d = table
+    upper, lower = (a, c) if end is None else (a * end + b, c * end + d)
+    return None if lower == 0 else upper / lower
+
+
+def end_from(number):
+    return "far" if number is None else pair(Fraction(number))

@@ -1,43 +1,18 @@
 import unittest
 from fractions import Fraction
-from itertools import product as each
 
-from helper import (PRIMES, SIXTY_FIGURES, is_spot_by_words, is_table, is_whole, number_of, numbers_of, pair,
-                    power_of_number, product_by_numbers, some_spots, spot_by_number, table_from, turned_by_numbers,
-                    way_by_parting)
+from helper import (PRIMES, SIXTY_FIGURES, great_tables, have_one_grid, is_spot_by_words, is_table, is_whole, number_of,
+                    numbers_of, pair, power_of_number, powers_in, product_by_numbers, some_spots, spot_by_number,
+                    table_from, tables_for, turned_by_numbers, way_by_parting)
 from primetree.fractions import rest_by
 from primetree.grids import is_spot, lies_in, spot_of, table_at, two_numbers, way
 from primetree.tables import product, stretched, table_of, turned_over
-
-
-def tables_for(p):
-    """Tables with noughts in every place that lets them in, and with powers of p above and below."""
-    numbers = (Fraction(0), Fraction(1), Fraction(-1), Fraction(p), Fraction(-11, p), Fraction(p * p, 13))
-    return [table_from(*four) for four in each(numbers, repeat=4) if four[0] * four[3] != four[1] * four[2]]
-
-
-def great_tables(p):
-    return [table_from(SIXTY_FIGURES, Fraction(1, p ** 70), -SIXTY_FIGURES, Fraction(p ** 70, 11 ** 50)),
-            table_from(p ** 70, 0, 0, Fraction(1, p ** 70)), table_from(0, p ** 70, Fraction(1, p ** 70), 0),
-            table_from(1, 0, p ** 70, p ** 70), table_from(0, 1, SIXTY_FIGURES, Fraction(-1, SIXTY_FIGURES)),
-            table_from(10 ** 59 + 1, 10 ** 59, 10 ** 59, 10 ** 59 - 1)]
-
-
-def powers_in(p, numbers):
-    return [power_of_number(p, number) for number in numbers if number != 0]
 
 
 def numbers_by_words(p, table):
     a, b, c, d = table
     low = min(powers_in(p, table))
     return (low, power_of_number(p, a * d - b * c) - low)
-
-
-def have_one_grid(p, one, other):
-    """Whether the one table's pairs, stretched, are the other one's: each grid's pairs reckoned by the other table."""
-    turned = product_by_numbers(turned_by_numbers(numbers_of(one)), numbers_of(other))
-    a, b, c, d = turned
-    return 2 * min(powers_in(p, turned)) == power_of_number(p, a * d - b * c)
 
 
 class TestIsSpot(unittest.TestCase):

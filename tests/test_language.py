@@ -170,6 +170,23 @@ class TestLanguage(unittest.TestCase):
             if isinstance(node.func, ast.Attribute):
                 self.assertIn(node.func.attr, OWN_METHODS | own, place)
 
+    def test_no_name_is_a_method_here_and_a_value_there(self):
+        methods = set()
+        for place, node in self.each_node(ast.ClassDef):
+            names = [inner.name for inner in node.body if isinstance(inner, ast.FunctionDef)]
+            self.assertEqual(len(names), len(set(names)), place)
+            methods.update(names)
+        for place, node in self.each_node(ast.Attribute):
+            if isinstance(node.ctx, ast.Store):
+                self.assertNotIn(node.attr, methods, place)
+
+    def test_what_only_asks_stores_nothing(self):
+        for place, node in self.each_node(ast.FunctionDef):
+            stored = [inner for inner in ast.walk(node)
+                      if isinstance(inner, ast.Attribute) and isinstance(inner.ctx, ast.Store)]
+            if node.name in ("__eq__", "__repr__", "__str__", "__len__"):
+                self.assertEqual(stored, [], place)
+
     def test_is_and_powers(self):
         for place, node in self.each_node(ast.Compare):
             for sign, right in zip(node.ops, node.comparators):
