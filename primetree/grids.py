@@ -4,6 +4,8 @@ from primetree.fractions import NOUGHT, ONE, is_fraction, over, power_in, prime_
 from primetree.tables import measure, product, turned_over
 from primetree.wholes import is_whole
 
+FIRST = (0, (0, 1))
+
 
 def is_spot(p, thing):
     if not isinstance(thing, tuple) or len(thing) != 2:

@@ -10,6 +10,11 @@ def road(p, one, other):
     far = way(p, one, other)
     if far > FURTHEST_WAY:
         raise TooFar(far)
+    return spots_between(p, one, other)
+
+
+# The road, however long it is.
+def spots_between(p, one, other):
     turn = turn_between(p, one, other)[0]
     up = [spot_above(p, one, k) for k in range(one[0], turn - 1, -1)]
     down = [spot_above(p, other, k) for k in range(turn + 1, other[0] + 1)]
@@ -20,6 +25,14 @@ def road(p, one, other):
 def turn_between(p, one, other):
     # The lower number is 0 less the steps from the one up to it, the higher one the steps down to the other.
     return spot_above(p, one, one[0] + lies_in(p, one, other)[0])
+
+
+# The spot of the road from the one to the other that is so many steps from the one.
+def spot_along(p, one, other, steps):
+    up = one[0] - turn_between(p, one, other)[0]
+    if steps <= up:
+        return spot_above(p, one, one[0] - steps)
+    return spot_above(p, other, one[0] - 2 * up + steps)
 
 
 def meeting(p, one, two, three):

@@ -3,21 +3,36 @@
 from primetree.errors import NoSpot, NoText
 from primetree.fractions import fraction
 from primetree.grids import is_spot
-from primetree.wholes import shared
+from primetree.wholes import raised, shared
 
 FAR = "far"
 FIGURES = "0123456789"
 MOST_FIGURES = 60
 MOST_FIRST_FIGURES = 3
 FURTHEST_FIRST = 300
+PIECE_FIGURES = 1000
 
 
 def fraction_text(a):
-    top = a[0]
-    bottom = a[1]
-    if bottom == 1:
-        return f"{top}"
+    top = whole_text(a[0])
+    if a[1] == 1:
+        return top
+    bottom = whole_text(a[1])
     return f"{top}/{bottom}"
+
+
+# Python's own str refuses numbers of more than some thousand figures, and a spot may grow so great, row by row.
+def whole_text(number):
+    size = raised(10, PIECE_FIGURES)
+    left = abs(number)
+    pieces = []
+    while left >= size:
+        pieces.append(str(left % size).zfill(PIECE_FIGURES))
+        left = left // size
+    pieces.append(str(left))
+    if number < 0:
+        pieces.append("-")
+    return "".join(reversed(pieces))
 
 
 def spot_text(spot):

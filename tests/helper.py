@@ -163,3 +163,29 @@ def led_by_numbers(table, end):
 
 def end_from(number):
     return "far" if number is None else pair(Fraction(number))
+
+
+def numbers_for(p):
+    """Ends as numbers, far as None."""
+    return [None, Fraction(0)] + some_numbers(p)
+
+
+def ends_for(p):
+    return [end_from(number) for number in numbers_for(p)]
+
+
+def next_by_words(p, spot, end):
+    k = spot[0]
+    q = number_of(spot[1])
+    if end != "far":
+        x = number_of(end)
+        if x == q or power_of_number(p, x - q) >= k:
+            return (k + 1, pair(rest_by_words(p, k + 1, x)))
+    return (k - 1, pair(rest_by_words(p, k - 1, q)))
+
+
+def road_by_words(p, spot, end, steps):
+    told = [spot]
+    for step in range(steps):
+        told.append(next_by_words(p, told[-1], end))
+    return told

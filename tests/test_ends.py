@@ -1,9 +1,9 @@
 import unittest
 from fractions import Fraction
 
-from helper import (PRIMES, end_from, great_tables, is_fraction, is_spot_by_words, led_by_numbers, number_of,
-                    numbers_of, pair, power_of_number, product_by_numbers, rest_by_words, some_numbers, some_spots,
-                    some_tables, spot_by_number, table_from, tables_for, way_by_parting)
+from helper import (PRIMES, end_from, ends_for, great_tables, is_fraction, is_spot_by_words, led_by_numbers,
+                    next_by_words, number_of, numbers_for, numbers_of, pair, product_by_numbers, rest_by_words,
+                    some_spots, some_tables, spot_by_number, table_from, tables_for, way_by_parting)
 from primetree.ends import led, next_to, road_to
 from primetree.moves import moved
 from primetree.roads import road
@@ -12,25 +12,6 @@ from primetree.ties import ties
 
 FIRST = (0, (0, 1))
 FAR = "far"
-
-
-def numbers_for(p):
-    """Ends as numbers, far as None."""
-    return [None, Fraction(0)] + some_numbers(p)
-
-
-def ends_for(p):
-    return [end_from(number) for number in numbers_for(p)]
-
-
-def next_by_words(p, spot, end):
-    k = spot[0]
-    q = number_of(spot[1])
-    if end != FAR:
-        x = number_of(end)
-        if x == q or power_of_number(p, x - q) >= k:
-            return (k + 1, pair(rest_by_words(p, k + 1, x)))
-    return (k - 1, pair(rest_by_words(p, k - 1, q)))
 
 
 class TestLed(unittest.TestCase):

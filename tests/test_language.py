@@ -56,6 +56,18 @@ def called(node):
     return getattr(node.func, "id", getattr(node.func, "attr", None))
 
 
+def is_plain(node, above, at_top):
+    """A whole number, a text and their like, or a list, tuple or dict of these and of functions defined above."""
+    if isinstance(node, ast.Constant):
+        return True
+    if isinstance(node, ast.Name):
+        return node.id in above
+    if isinstance(node, ast.Tuple) or at_top and isinstance(node, ast.List):
+        return all(is_plain(inner, above, False) for inner in node.elts)
+    return at_top and isinstance(node, ast.Dict) and all(is_plain(inner, above, False)
+                                                         for inner in node.keys + node.values)
+
+
 class TestLanguage(unittest.TestCase):
     def setUp(self):
         self.texts = read_package()
@@ -87,6 +99,25 @@ class TestLanguage(unittest.TestCase):
                 self.assertIsInstance(node, (ast.Expr, ast.ImportFrom, ast.FunctionDef, ast.ClassDef, ast.Assign), name)
             bound = [node.name for node in tree.body if isinstance(node, (ast.FunctionDef, ast.ClassDef))]
             self.assertEqual(len(bound), len(set(bound)), name)
+
+    def test_plain_values_at_the_top(self):
+        for name, tree in self.trees.items():
+            above = set()
+            for node in tree.body:
+                if isinstance(node, ast.FunctionDef):
+                    above.add(node.name)
+                if isinstance(node, ast.Assign):
+                    self.assertTrue(is_plain(node.value, above, True), f"{name}:{node.lineno}")
+
+    def test_what_stands_at_the_top_is_not_changed(self):
+        changing = ("append", "clear", "extend", "insert", "pop", "remove", "reverse", "setdefault", "update")
+        for name, tree in self.trees.items():
+            kept = {node.targets[0].id for node in tree.body if isinstance(node, ast.Assign)}
+            for node in ast.walk(tree):
+                if isinstance(node, ast.Attribute) and node.attr in changing:
+                    self.assertNotIn(getattr(node.value, "id", None), kept, f"{name}:{node.lineno}")
+                if isinstance(node, ast.Subscript) and isinstance(node.ctx, ast.Store):
+                    self.assertNotIn(getattr(node.value, "id", None), kept, f"{name}:{node.lineno}")
 
     def test_imports_are_from_the_defining_file(self):
         for place, node in self.each_node(ast.ImportFrom):

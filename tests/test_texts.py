@@ -43,6 +43,15 @@ class TestFractionText(unittest.TestCase):
         self.assertEqual(fraction_text((-1, 10 ** 1999)), "-1/1" + "0" * 1999)
         self.assertEqual(fraction_text((10 ** 1999, 3)), "1" + "0" * 1999 + "/3")
 
+    def test_more_figures_than_python_writes_by_itself(self):
+        for count in (999, 1000, 1001, 2000, 4299, 4300, 4301, 5000, 9001):
+            self.assertEqual(fraction_text((10 ** count, 1)), "1" + "0" * count)
+            self.assertEqual(fraction_text((-(10 ** count), 1)), "-1" + "0" * count)
+            self.assertEqual(fraction_text((10 ** count - 1, 1)), "9" * count)
+            self.assertEqual(fraction_text((-1, 10 ** count + 7)), "-1/1" + "0" * (count - 1) + "7")
+            self.assertEqual(fraction_text((10 ** count, 10 ** count + 1)), "1" + "0" * count + "/1" + "0" * (count - 1)
+                             + "1")
+
     def test_by_name(self):
         self.assertEqual(fraction_text(a=(1, 2)), "1/2")
 
