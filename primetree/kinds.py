@@ -1,32 +1,30 @@
 """What a table does with the tree: it keeps a spot, it turns a tie end for end, or it slides along a line."""
 
-from primetree.errors import TooFar
 from primetree.fractions import power_in, prime_power, rest_by, times
 from primetree.grids import FIRST, table_at, two_numbers, way
 from primetree.moves import moved
-from primetree.roads import FURTHEST_WAY, road, spot_along, spots_between
+from primetree.roads import road, spot_along, spots_between
 from primetree.tables import measure, product, trace, turned_over
-from primetree.ties import within
+from primetree.ties import tied, within
 
 KEEPS = "keeps"
 TURNS = "turns"
 SLIDES = "slides"
 
 
-# A spot n ways from what the table keeps, turns or slides along is moved by 2 * n ways and, at most, the slide or the
-# tie between: so what lies n steps on, on the road to the moved spot, is kept, is an end of the tie, or is on the line.
+# The road from a spot to the moved one goes to what the table keeps, turns or slides along, and as far away from it
+# again: so its middle is kept, is an end of the tie, or is on the line.
 def kind(p, table):
-    steps = slide(p, table)
-    if steps > FURTHEST_WAY:
-        raise TooFar(steps)
     there = moved(p, table, FIRST)
-    one = spot_along(p, FIRST, there, (way(p, FIRST, there) - steps) // 2)
+    one = spot_along(p, FIRST, there, way(p, FIRST, there) // 2)
     other = moved(p, table, one)
-    if steps > 0:
-        return (SLIDES, steps, road(p, one, other))
     if one == other:
         return (KEEPS, one)
-    return (TURNS, min(one, other), max(one, other))
+    steps = slide(p, table)
+    if steps == 0:
+        return (TURNS, min(one, other), max(one, other))
+    # The road is as long as the slide, and refused where that is too far.
+    return (SLIDES, steps, road(p, one, other))
 
 
 # By how many steps the table slides; 0 where it does not.
@@ -71,7 +69,7 @@ def holds(p, table, told):
 
 # Two spots that are moved to one another need not be tied: about a kept spot many are.
 def is_turned(p, table, one, other):
-    if not one < other or way(p, one, other) != 1:
+    if not one < other or not tied(p, one, other):
         return False
     return moved(p, table, one) == other and moved(p, table, other) == one
 
